@@ -209,7 +209,7 @@ func TestP2Order(t *testing.T) {
 	}
 }
 
-// P2: an ancestor comes ahead of all names under it, and these stand together.
+// P2: an ancestor comes ahead of all names under it.
 func TestP2Ancestors(t *testing.T) {
 	r := rand.New(rand.NewSource(5))
 	list := someNames()
