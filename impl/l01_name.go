@@ -58,21 +58,30 @@ const maxLabels = (MaxName - 1) / 2
 // labelList is the labels of a name, from the left.
 type labelList []string
 
+// nameSize tells how many bytes the name at the front of data has; false if none stands there.
+func nameSize(data string) (int, bool) {
+	at := 0
+	for at < len(data) {
+		size := int(data[at])
+		if size == 0 {
+			return at + 1, true
+		}
+		at += 1 + size
+		if !labelFits(size) || at >= MaxName {
+			return 0, false
+		}
+	}
+	return 0, false
+}
+
 // splitName cuts a name into labels, which share its memory; false if it is no name.
 func splitName(name string) (labelList, bool) {
-	if len(name) > MaxName {
+	if !NameOK(name) {
 		return nil, false
 	}
 	var list labelList
-	rest := name
-	for rest != root {
-		if rest == "" {
-			return nil, false
-		}
+	for rest := name; rest != root; {
 		size := int(rest[0])
-		if !labelFits(size) || size >= len(rest) {
-			return nil, false
-		}
 		list = append(list, rest[1:1+size])
 		rest = rest[1+size:]
 	}
@@ -157,8 +166,8 @@ func labelFits(size int) bool { return size > 0 && size <= MaxLabel }
 
 // NameOK tells whether it is a name, see chapter 2.
 func NameOK(name string) bool {
-	_, ok := splitName(name)
-	return ok
+	size, ok := nameSize(name)
+	return ok && size == len(name)
 }
 
 // Labels tells a name's labels, see chapter 2.

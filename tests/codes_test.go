@@ -53,3 +53,39 @@ func TestLimits(t *testing.T) {
 		}
 	}
 }
+
+// The types and classes of chapter 3.
+func TestTypesAndClasses(t *testing.T) {
+	for _, c := range []struct {
+		name      string
+		got, want int64
+	}{
+		{"TypeA", impl.TypeA, 1},
+		{"TypeNS", impl.TypeNS, 2},
+		{"TypeCNAME", impl.TypeCNAME, 5},
+		{"TypeSOA", impl.TypeSOA, 6},
+		{"TypePTR", impl.TypePTR, 12},
+		{"TypeHINFO", impl.TypeHINFO, 13},
+		{"TypeMX", impl.TypeMX, 15},
+		{"TypeTXT", impl.TypeTXT, 16},
+		{"TypeAAAA", impl.TypeAAAA, 28},
+		{"TypeSRV", impl.TypeSRV, 33},
+		{"TypeNAPTR", impl.TypeNAPTR, 35},
+		{"TypeDNAME", impl.TypeDNAME, 39},
+		{"TypeOPT", impl.TypeOPT, 41},
+		{"TypeNSEC", impl.TypeNSEC, 47},
+		{"TypeTSIG", impl.TypeTSIG, 250},
+		{"TypeIXFR", impl.TypeIXFR, 251},
+		{"TypeAXFR", impl.TypeAXFR, 252},
+		{"TypeANY", impl.TypeANY, 255},
+		{"TypeCAA", impl.TypeCAA, 257},
+		{"ClassIN", impl.ClassIN, 1},
+		{"ClassCH", impl.ClassCH, 3},
+		{"ClassNONE", impl.ClassNONE, 254},
+		{"ClassANY", impl.ClassANY, 255},
+	} {
+		if c.got != c.want {
+			t.Errorf("%s = %d, not %d", c.name, c.got, c.want)
+		}
+	}
+}
