@@ -349,6 +349,11 @@ func showByte(out []byte, c byte) []byte {
 	case c >= 33 && c <= 126:
 		return append(out, c)
 	}
+	return showNumber(out, c)
+}
+
+// showNumber adds a byte as an escape with its number.
+func showNumber(out []byte, c byte) []byte {
 	return append(out, '\\', '0'+c/100, '0'+c/10%10, '0'+c%10)
 }
 
